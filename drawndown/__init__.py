@@ -1,0 +1,1 @@
+"""Drawndown: several numbers drawn down together."""

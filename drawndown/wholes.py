@@ -1,0 +1,22 @@
+"""Whole numbers and tuples of them: what lots and tables alike are built of."""
+
+LEAST_SIZE = 2
+MOST_SIZE = 4
+
+
+def is_whole(thing):
+    """Whether the thing is a whole number."""
+    # Python counts True and False among its ints; here they are no numbers.
+    return isinstance(thing, int) and not isinstance(thing, bool)
+
+
+def are_wholes(thing, many):
+    """Whether the thing is a tuple of just so many whole numbers."""
+    if not isinstance(thing, tuple) or len(thing) != many:
+        return False
+    return all([is_whole(part) for part in thing])
+
+
+def has_size(thing):
+    """Whether the thing is a tuple of as many parts as a lot or a table may have."""
+    return isinstance(thing, tuple) and LEAST_SIZE <= len(thing) <= MOST_SIZE
