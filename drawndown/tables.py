@@ -54,9 +54,20 @@ def turned_back(table):
     ])
 
 
+def together(line, numbers):
+    """The products of the line's numbers and the tuple's, place by place, together."""
+    return sum([one * other for one, other in zip(line, numbers)])
+
+
 def lines_times(lines, numbers):
-    """The products of each line's numbers and the tuple's, place by place, together."""
-    return tuple([sum([one * other for one, other in zip(line, numbers)]) for line in lines])
+    """What each of the lines and the tuple come to together: a tuple."""
+    return tuple([together(line, numbers) for line in lines])
+
+
+def like_places(size):
+    """The table of this size with 1 at the places whose line and column are of one number, else 0."""
+    places = list(range(size))
+    return tuple([tuple([1 if line == column else 0 for column in places]) for line in places])
 
 
 def columns_of(table):

@@ -1,5 +1,7 @@
 """Whole numbers and tuples of them: what lots and tables alike are built of."""
 
+from drawndown.errors import NoNumber
+
 LEAST_SIZE = 2
 MOST_SIZE = 4
 
@@ -20,3 +22,9 @@ def are_wholes(thing, many):
 def has_size(thing):
     """Whether the thing is a tuple of as many parts as a lot or a table may have."""
     return isinstance(thing, tuple) and LEAST_SIZE <= len(thing) <= MOST_SIZE
+
+
+def want_number(thing, least, most):
+    """Refuse what is no whole number from the least to the most one."""
+    if not is_whole(thing) or not least <= thing <= most:
+        raise NoNumber("a whole number within the bounds is wanted")

@@ -101,6 +101,53 @@ class Form(unittest.TestCase):
                     if isinstance(node, ast.Name) and node.id in dir(builtins):
                         self.assertIn(node.id, ALLOWED)
 
+    def test_no_local_is_called_like_a_class_or_an_import(self):
+        for path, tree in PARSED:
+            with self.subTest(file=path.name):
+                taken = {node.name for node in tree.body if isinstance(node, ast.ClassDef)}
+                for node in tree.body:
+                    if isinstance(node, ast.ImportFrom):
+                        taken |= {alias.asname or alias.name for alias in node.names}
+                for node in ast.walk(tree):
+                    if isinstance(node, ast.FunctionDef):
+                        self.assertEqual(taken & set(bound_names(node)), set(), node.name)
+
+    def test_exponents_are_written(self):
+        for path, tree in PARSED:
+            for node in ast.walk(tree):
+                if isinstance(node, ast.BinOp) and isinstance(node.op, ast.Pow):
+                    self.assertIsInstance(node.right, ast.Constant, path.name)
+                    self.assertIn(node.right.value, range(65), path.name)
+
+    def test_what_is_walked_is_not_kept(self):
+        kept = (ast.Assign, ast.Return, ast.Expr)
+        for path, tree in PARSED:
+            for node in ast.walk(tree):
+                if isinstance(node, kept) and isinstance(node.value, ast.Call) and isinstance(node.value.func, ast.Name):
+                    self.assertNotIn(node.value.func.id, ("range", "zip", "enumerate", "reversed"), path.name)
+
+    def test_no_two_files_draw_from_one_another(self):
+        drawn = {}
+        for path, tree in PARSED:
+            modules = [node.module for node in ast.walk(tree) if isinstance(node, ast.ImportFrom)]
+            drawn["drawndown." + path.stem] = {module for module in modules if module != "__future__"}
+        while drawn:
+            free = [name for name, modules in drawn.items() if not modules & set(drawn)]
+            self.assertNotEqual(free, [], drawn)
+            drawn = {name: modules for name, modules in drawn.items() if name not in free}
+
+    def test_each_name_is_drawn_from_the_file_that_defines_it(self):
+        defined = {}
+        for path, tree in PARSED:
+            names = [node.name for node in tree.body if isinstance(node, (ast.FunctionDef, ast.ClassDef))]
+            names += [target.id for node in tree.body if isinstance(node, ast.Assign) for target in node.targets]
+            defined["drawndown." + path.stem] = names
+        for path, tree in PARSED:
+            for node in ast.walk(tree):
+                if isinstance(node, ast.ImportFrom) and node.module != "__future__":
+                    for alias in node.names:
+                        self.assertIn(alias.name, defined[node.module], path.name)
+
     def test_each_name_once_at_the_top(self):
         for path, tree in PARSED:
             with self.subTest(file=path.name):

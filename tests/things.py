@@ -7,6 +7,8 @@ import unittest
 
 GREAT = 10 ** 100 - 1
 
+RULES = ("next", "least", "all", "turn")
+
 PLAIN = [0, 1, -1, 2, 7, GREAT, -GREAT, True, False, None, "", "12:0:5", "(1, 2)", "\t\n~ "]
 
 EMPTY = [[], (), {}]
@@ -20,7 +22,8 @@ OTHER_KINDS = [
 
 def wrapped(thing):
     """The thing within each kind that may hold one, alone and beside itself."""
-    return [[thing], (thing,), [thing, thing], (thing, thing), (thing, thing, thing), {"a": thing}, {0: thing, 1: thing}]
+    boxes = [[thing], (thing,), [thing, thing], (thing, thing), (thing, thing, thing)]
+    return boxes + [{"a": thing}, {0: thing, 1: thing}]
 
 
 def nested(deep):
@@ -124,6 +127,123 @@ def some_fair_table(dice, size, most):
     return multiplied_by_words(multiplied_by_words(low, mixed), high)
 
 
+def small_lots(**most):
+    """All lots with no number above the one told for their size: small_lots(two=9, three=5)."""
+    for size, name in ((2, "two"), (3, "three"), (4, "four")):
+        for lot in itertools.product(range(most.get(name, -1) + 1), repeat=size):
+            if any(lot):
+                yield lot
+
+
+def some_lot(dice, size, most):
+    """A lot with some common, now and then with noughts or like numbers in it."""
+    shared = dice.choice((1, 1, 2, 6, 35))
+    numbers = [shared * dice.randint(1, max(1, most // shared)) for place in range(size)]
+    if dice.randrange(4) == 0:
+        numbers[dice.randrange(size)] = dice.choice(numbers)
+    if dice.randrange(4) == 0:
+        numbers[dice.randrange(size)] = 0
+    return tuple(numbers) if any(numbers) else (0,) * (size - 1) + (shared,)
+
+
+def some_lots(seed, many, *most):
+    """So many lots of each size with numbers up to each of these."""
+    dice = random.Random(seed)
+    return [some_lot(dice, size, bound) for bound in most for size in (2, 3, 4) for count in range(many)]
+
+
+def slow_lot(size, figures):
+    """A lot of numbers that grow slowly, each from two that lie well behind it: its runs are long."""
+    numbers = [1] * size
+    while len(str(numbers[-1])) < figures:
+        numbers = numbers[1:] + [numbers[0] + numbers[1]]
+    return tuple(numbers)
+
+
+def division_by_words(rule, lot):
+    """The place of the number that divides, and the quotient of each place whose number is divided."""
+    falling = sorted(range(len(lot)), key=lambda at: (-lot[at], at))
+    rising = sorted([at for at in falling if lot[at] != 0], key=lambda at: (lot[at], at))
+    greatest = falling[0]
+    if rule == "next":
+        by, divided = falling[1], [greatest]
+    elif rule == "least":
+        by, divided = [at for at in rising if at != greatest][0], [greatest]
+    elif rule == "all":
+        by, divided = rising[0], [at for at in falling if at != rising[0]]
+    elif rule == "turn":
+        by, divided = 0, [at for at in falling if at != 0 and lot[0] != 0]
+    return by, {at: lot[at] // lot[by] for at in divided}
+
+
+def step_by_words(rule, lot):
+    by, quotients = division_by_words(rule, lot)
+    left = [lot[at] % lot[by] if at in quotients else lot[at] for at in range(len(lot))]
+    if rule == "turn":
+        left.append(left.pop(0))
+    return tuple(left)
+
+
+def table_by_words(rule, lot):
+    """Place by place, as point 9 says it."""
+    size = len(lot)
+    by, quotients = division_by_words(rule, lot)
+    table = [[0] * size for line in range(size)]
+    if rule == "turn":
+        table[0][size - 1] = 1
+        for k in range(1, size):
+            table[k][k - 1] = 1
+            table[k][size - 1] = quotients.get(k, 0)
+    else:
+        for k in range(size):
+            table[k][k] = 1
+        for k, quotient in quotients.items():
+            table[k][by] = quotient
+    return tuple(tuple(line) for line in table)
+
+
+def has_ended_by_words(lot):
+    return lot.count(0) == len(lot) - 1
+
+
+def run_by_words(rule, lot):
+    lots = [lot]
+    while not has_ended_by_words(lot):
+        lot = step_by_words(rule, lot)
+        lots.append(lot)
+    return lots
+
+
+def lines_by_words(rule, lot):
+    """The lines of the run's product turned back, and the last lot.
+
+    They are drawn down along with the lot, from 1 at like places on, so nothing is multiplied or turned back."""
+    lines = [list(line) for line in like_places(len(lot))]
+    while not has_ended_by_words(lot):
+        by, quotients = division_by_words(rule, lot)
+        for at, quotient in quotients.items():
+            lines[at] = [one - quotient * other for one, other in zip(lines[at], lines[by])]
+        if rule == "turn":
+            lines.append(lines.pop(0))
+        lot = step_by_words(rule, lot)
+    return [tuple(line) for line in lines], lot
+
+
+def no_lots():
+    """Things of all kinds that are no lots."""
+    good = [(12, 5), (12, 0, 5), (4, 6, 8, 10), (GREAT, GREAT - 1)]
+    return [thing for thing in anything(*good) if not is_lot_by_words(thing)] + OTHER_KINDS
+
+
+def no_rules():
+    """Things of all kinds that are no names of rules, and some that nearly are."""
+    names = [sign + name for name in RULES for sign in " \tn"] + [name + sign for name in RULES for sign in " \nx:"]
+    names += [name[:-1] for name in RULES] + [name.upper() for name in RULES] + [name.title() for name in RULES]
+    names += ["next all", "first", "greatest", "turns", "step", "0"]
+    boxed = [box for name in RULES for box in ([name], (name,), {name: 1}, {1: name}, {name}, name.encode())]
+    return names + boxed + anything((12, 5)) + OTHER_KINDS
+
+
 class Case(unittest.TestCase):
     """A test case that can tell a refusal's very class, and that nothing was changed."""
 
@@ -138,6 +258,18 @@ class Case(unittest.TestCase):
     def assert_told(self, wanted, call, *handed):
         # By repr, so that True is told from 1 and a list from a tuple.
         self.assertEqual(repr(self.told(call, *handed)), repr(wanted), (call.__name__, handed))
+
+    def assert_own_list(self, call, *handed):
+        """That the told list is the asker's own: whatever is done to it, what is told later stays the same."""
+        told = call(*handed)
+        self.assertIs(type(told), list)
+        ahead = repr(told)
+        for deed in (lambda: told.append((9, 9)), told.reverse, lambda: told.insert(0, None), told.clear):
+            deed()
+            self.assertEqual(repr(call(*handed)), ahead)
+        kept = call(*handed)
+        call(*handed).clear()
+        self.assertEqual(repr(kept), ahead)
 
     def assert_refused(self, error, call, *handed):
         ahead = repr(handed)

@@ -1,0 +1,108 @@
+"""Point 3: what the modules tell hangs together, at drawn lots, by what they tell alone."""
+
+import functools
+import itertools
+import unittest
+
+from drawndown.lots import common, has_ended, is_lot
+from drawndown.nearest import columns, errors, records, tops, worst
+from drawndown.rules import run, step, step_table, tables_of, whole_table
+from drawndown.shows import are_weights, base, is_base, is_relation, is_showing, showing, weights
+from drawndown.tables import is_table, multiplied, one_number, times, turned_back
+from drawndown.texts import read, written
+from things import GREAT, RULES, Case, like_places, small_lots, some_lots
+
+LOTS = list(small_lots(two=8, three=4, four=2)) + some_lots(61, 8, 99, 10 ** 12) + some_lots(62, 3, GREAT)
+
+
+class Together(Case):
+    def each(self):
+        return [(rule, lot) for lot in LOTS for rule in RULES]
+
+    def test_a_run_goes_step_by_step(self):
+        for rule, lot in self.each():
+            lots = run(rule, lot)
+            self.assertEqual(lots[0], lot)
+            self.assertEqual(lots[1:], [step(rule, ahead) for ahead in lots[:-1]])
+            self.assertEqual([has_ended(each) for each in lots], [False] * (len(lots) - 1) + [True])
+            self.assertEqual(tables_of(rule, lot), [step_table(rule, ahead) for ahead in lots[:-1]])
+
+    def test_each_table_times_the_next_lot_is_the_lot_ahead(self):
+        for rule, lot in self.each():
+            lots, tables = run(rule, lot), tables_of(rule, lot)
+            self.assertEqual(len(tables), len(lots) - 1)
+            for ahead, table, behind in zip(lots, tables, lots[1:]):
+                self.assertIs(is_lot(behind), True)
+                self.assertIs(is_table(table), True)
+                self.assertEqual(times(table, behind), ahead)
+                self.assertEqual(times(turned_back(table), ahead), behind)
+                self.assertIn(one_number(table), (1, -1))
+
+    def test_the_product_times_the_last_lot_is_the_lot(self):
+        for rule, lot in self.each():
+            product, last = whole_table(rule, lot), run(rule, lot)[-1]
+            self.assertEqual(product, functools.reduce(multiplied, tables_of(rule, lot), like_places(len(lot))))
+            self.assertEqual(times(product, last), lot)
+            self.assertEqual(times(turned_back(product), lot), last)
+            self.assertIn(one_number(product), (1, -1))
+
+    def test_the_common_stays_along_each_run(self):
+        for rule, lot in self.each():
+            for each in run(rule, lot):
+                self.assertEqual(common(each), common(lot))
+            self.assertEqual(max(each), common(lot))
+
+    def test_a_number_that_divides_all_divides_what_is_left(self):
+        for rule, lot in self.each():
+            more = tuple(7 * number for number in lot)
+            self.assertEqual(run(rule, more), [tuple(7 * number for number in each) for each in run(rule, lot)])
+            self.assertEqual(tables_of(rule, more), tables_of(rule, lot))
+
+    def test_weights_and_base_are_the_lines_of_the_product_turned_back(self):
+        for rule, lot in self.each():
+            last, lines = run(rule, lot)[-1], list(turned_back(whole_table(rule, lot)))
+            at = [place for place, number in enumerate(last) if number != 0][0]
+            self.assertEqual(weights(rule, lot), lines.pop(at))
+            self.assertEqual(base(rule, lot), lines)
+
+    def test_weights_make_the_common_and_relations_nought(self):
+        for rule, lot in self.each():
+            self.assertIs(are_weights(lot, weights(rule, lot)), True)
+            self.assertIs(is_base(lot, base(rule, lot)), True)
+            for line in base(rule, lot):
+                self.assertIs(is_relation(lot, line), True)
+                moved = tuple(one + other for one, other in zip(weights(rule, lot), line))
+                self.assertIs(are_weights(lot, moved), True)
+
+    def test_a_showing_shows_the_common(self):
+        for rule, lot in self.each():
+            shown = showing(rule, lot)
+            self.assertIs(is_showing(lot, shown), True)
+            self.assertEqual(shown[0], common(lot))
+            self.assertEqual(tuple(shown[0] * quotient for quotient in shown[1]), lot)
+            self.assertEqual(shown[2], weights(rule, lot))
+
+    def test_columns_are_those_of_the_growing_products(self):
+        for rule, lot in self.each():
+            if lot[-1] != 0:
+                products = list(itertools.accumulate(tables_of(rule, lot), multiplied))
+                found = [column for product in products for column in zip(*product) if column[-1] != 0]
+                self.assertEqual(columns(rule, lot), list(dict.fromkeys(found)))
+
+    def test_a_part_is_made_of_its_top_and_its_error(self):
+        for lot in LOTS:
+            if lot[-1] != 0:
+                for bottom, of_bottom in records(lot, 20):
+                    self.assertEqual(worst(lot, bottom), of_bottom)
+                    self.assertEqual(max(map(abs, errors(lot, bottom))), of_bottom)
+                    for part, top, error in zip(lot, tops(lot, bottom), errors(lot, bottom)):
+                        self.assertEqual(bottom * part, top * lot[-1] + error)
+
+    def test_what_is_written_is_read(self):
+        for rule, lot in self.each():
+            for each in run(rule, lot)[:20]:
+                self.assertEqual(read(written(each)), each)
+
+
+if __name__ == "__main__":
+    unittest.main()
