@@ -7,8 +7,8 @@ from fractions import Fraction
 from drawndown.errors import NoBottom, NoLot, NoNumber, NoRule
 from drawndown.nearest import columns, errors, records, tops, worst
 from things import (
-    GREAT, OTHER_KINDS, RULES, Case, anything, has_ended_by_words, is_number_by_words, like_places,
-    multiplied_by_words, no_lots, no_rules, run_by_words, slow_lot, small_lots, some_lots, table_by_words,
+    GREAT, RULES, Case, has_ended_by_words, like_places, multiplied_by_words, no_lots, no_numbers, no_rules,
+    run_by_words, slow_lot, small_lots, some_lots, table_by_words,
 )
 
 MOST = 10 ** 12
@@ -55,13 +55,6 @@ def columns_by_words(rule, lot):
 
 def with_bottom(lots):
     return [lot for lot in lots if lot[-1] != 0]
-
-
-def no_numbers(most):
-    """Things of all kinds that are no whole numbers from 1 to the most one."""
-    things = [0, -1, most + 1, -most, GREAT, -GREAT, True, False, None, "1", "", 1.0, (1,), [1], {1: 1}]
-    things += anything((12, 5)) + OTHER_KINDS
-    return [thing for thing in things if not is_number_by_words(thing) or not 1 <= thing <= most]
 
 
 class Interface(Case):
@@ -233,9 +226,9 @@ class Refused(Case):
 
     def test_what_is_no_number(self):
         for call in BY_BOTTOM:
-            for thing in no_numbers(MOST):
+            for thing in no_numbers(1, MOST):
                 self.assert_refused(NoNumber, call, (12, 5), thing)
-        for thing in no_numbers(1000):
+        for thing in no_numbers(1, 1000):
             self.assert_refused(NoNumber, records, (3, 4, 10), thing)
 
     def test_no_lot_goes_ahead_of_no_bottom_and_no_number(self):

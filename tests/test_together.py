@@ -4,8 +4,11 @@ import functools
 import itertools
 import unittest
 
+from drawndown.cubes import cube_product, cube_sign, cube_sum, whole_part
+from drawndown.least import by_length, by_weight, first_clash, has_none, is_clash, least_length, least_weight
 from drawndown.lots import common, has_ended, is_lot
 from drawndown.nearest import columns, errors, records, tops, worst
+from drawndown.rounds import cube_round, cube_step, cube_table, cubes_alike, round_numbers, round_table
 from drawndown.rules import run, step, step_table, tables_of, whole_table
 from drawndown.shows import are_weights, base, is_base, is_relation, is_showing, showing, weights
 from drawndown.tables import is_table, multiplied, one_number, times, turned_back
@@ -102,6 +105,59 @@ class Together(Case):
         for rule, lot in self.each():
             for each in run(rule, lot)[:20]:
                 self.assertEqual(read(written(each)), each)
+
+    def test_the_least_relations_are_relations_and_none_of_a_base_is_less(self):
+        for rule, lot in self.each():
+            if max(lot) <= 1000:
+                lines = [line for line in base(rule, lot) if any(line)]
+                for line in by_weight(lot) + by_length(lot):
+                    self.assertIs(is_relation(lot, line), True)
+                    self.assertGreaterEqual(max(map(abs, line)), least_weight(lot))
+                    self.assertGreaterEqual(sum(map(abs, line)), least_length(lot))
+                self.assertLessEqual(least_weight(lot), min(max(map(abs, line)) for line in lines))
+                self.assertLessEqual(least_length(lot), min(sum(map(abs, line)) for line in lines))
+
+    def test_clashes_come_just_where_the_least_weight_is_no_more_than_the_number(self):
+        for lot in LOTS:
+            for number in (1, 2, 3, 5, 8) if max(lot) <= 1000 else ():
+                clash = first_clash(lot, number)
+                self.assertIs(clash is not None, least_weight(lot) <= number)
+                self.assertIs(has_none(lot, number), clash is None)
+                if clash is not None:
+                    self.assertIs(is_clash(lot, number, clash), True)
+                    apart = tuple(other - one for one, other in zip(*clash))
+                    self.assertIs(is_relation(lot, apart), True)
+                    self.assertLessEqual(max(map(abs, apart)), number)
+
+    def test_whole_numbers_as_cube_numbers_turn_as_lots_do(self):
+        for lot in LOTS:
+            if len(lot) == 3:
+                lots = [tuple((number, 0, 0) for number in each) for each in run("turn", lot)]
+                self.assertEqual([cube_step(7, ahead) for ahead in lots[:-1]], lots[1:])
+                self.assertEqual([cube_table(7, ahead) for ahead in lots[:-1]], tables_of("turn", lot))
+                self.assertIsNone(cube_round(7, lots[0], 40))
+
+    def test_a_round_is_made_of_its_steps(self):
+        for root, most in itertools.product((2, 3, 5, 7, 9, 10, 14, 26, 31, 43), (40,)):
+            lots = [((1, 0, 0), (0, 1, 0), (0, 0, 1))]
+            ahead, steps = cube_round(root, lots[0], most)
+            tables = []
+            for count in range(ahead + steps):
+                tables.append(cube_table(root, lots[-1]))
+                lots.append(cube_step(root, lots[-1]))
+            table = functools.reduce(multiplied, tables[ahead:])
+            self.assertIs(cubes_alike(root, lots[ahead], lots[-1]), True)
+            self.assertEqual(round_table(root, lots[0], most), table)
+            self.assertEqual(round_numbers(root, lots[0], most)[2], one_number(table))
+            for line, number in zip(table, lots[ahead]):
+                parts = [cube_product(root, (many, 0, 0), part) for many, part in zip(line, lots[-1])]
+                self.assertEqual(functools.reduce(functools.partial(cube_sum, root), parts), number)
+
+    def test_a_cube_number_lies_between_its_whole_part_and_the_next_whole_number(self):
+        for root, number in itertools.product((2, 7, 50), itertools.product((-9, -1, 0, 4), repeat=3)):
+            whole = whole_part(root, number)
+            self.assertGreaterEqual(cube_sign(root, cube_sum(root, number, (-whole, 0, 0))), 0)
+            self.assertEqual(cube_sign(root, cube_sum(root, number, (-whole - 1, 0, 0))), -1)
 
 
 if __name__ == "__main__":

@@ -244,6 +244,13 @@ def no_rules():
     return names + boxed + anything((12, 5)) + OTHER_KINDS
 
 
+def no_numbers(least, most):
+    """Things of all kinds that are no whole numbers from the least to the most one."""
+    things = [least - 1, most + 1, -least, -most, 0, -1, GREAT, -GREAT, True, False, None, "1", "", 1.0, (1,), [1], {1: 1}]
+    things += anything((12, 5)) + OTHER_KINDS
+    return [thing for thing in things if not is_number_by_words(thing) or not least <= thing <= most]
+
+
 class Case(unittest.TestCase):
     """A test case that can tell a refusal's very class, and that nothing was changed."""
 
