@@ -3,7 +3,7 @@
 from drawndown.errors import TooMany
 from drawndown.lots import want_lot
 from drawndown.tables import together
-from drawndown.wholes import are_wholes, want_number
+from drawndown.wholes import are_wholes, tuples_between, want_number
 
 MOST_NUMBER = 1000
 MOST_OFTEN = 8
@@ -32,23 +32,15 @@ def length(line):
     return sum([abs(number) for number in line])
 
 
-def lines_within(size, most):
-    """The rising list of all lines of so many numbers, none of more weight than the most one."""
-    lines = [()]
-    for place in range(size):
-        lines = [line + (number,) for line in lines for number in range(-most, most + 1)]
-    return lines
-
-
 def relations_within(lot, most):
     """The rising list of all relations of the lot, but noughts alone, of no more weight than the most one."""
     # Each half of a relation is gone through by itself, so that the other half is looked up by its sum.
     middle = len(lot) // 2
     by_sum = {}
-    for first in lines_within(middle, most):
+    for first in tuples_between(middle, -most, most):
         by_sum.setdefault(together(first, lot[:middle]), []).append(first)
     found = []
-    for second in lines_within(len(lot) - middle, most):
+    for second in tuples_between(len(lot) - middle, -most, most):
         found += [first + second for first in by_sum.get(-together(second, lot[middle:]), [])]
     return sorted([line for line in found if weight(line) > 0])
 

@@ -2,7 +2,7 @@
 
 from drawndown.cubes import is_cube, norm_of, product_of, second_of, sign_of, want_root, whole_part
 from drawndown.errors import Ended, NoCube
-from drawndown.tables import like_places, multiplied, number_of, one_number, without
+from drawndown.tables import growing_products, number_of, one_number, without
 from drawndown.wholes import want_number
 
 SIZE = 3
@@ -110,11 +110,11 @@ def round_table(root, lot, most):
     ahead, steps = found
     for count in range(ahead):
         lot = cube_step(root, lot)
-    table = like_places(SIZE)
+    tables = []
     for count in range(steps):
-        table = multiplied(table, cube_table(root, lot))
+        tables.append(cube_table(root, lot))
         lot = cube_step(root, lot)
-    return table
+    return growing_products(SIZE, tables)[-1]
 
 
 def round_numbers(root, lot, most):

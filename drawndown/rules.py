@@ -2,7 +2,7 @@
 
 from drawndown.errors import Ended, NoRule
 from drawndown.lots import has_ended, want_lot
-from drawndown.tables import like_places, multiplied
+from drawndown.tables import growing_products, like_places
 
 
 def greatest_and_others(lot):
@@ -53,9 +53,14 @@ def by_turn(lot):
 RULES = {"next": by_next, "least": by_least, "all": by_all, "turn": by_turn}
 
 
+def is_rule(thing):
+    """Whether the thing is the name of a rule."""
+    return isinstance(thing, str) and thing in RULES
+
+
 def want_rule(thing):
     """Refuse what is no name of a rule."""
-    if not isinstance(thing, str) or thing not in RULES:
+    if not is_rule(thing):
         raise NoRule("the name of a rule, next, least, all or turn, is wanted")
 
 
@@ -119,10 +124,7 @@ def tables_of(rule, lot):
 def products_of(rule, lot):
     """The list of the products of the run's first tables: of none, of one, up to all of them."""
     tables = tables_of(rule, lot)
-    products = [like_places(len(lot))]
-    for table in tables:
-        products.append(multiplied(products[-1], table))
-    return products
+    return growing_products(len(lot), tables)
 
 
 def whole_table(rule, lot):

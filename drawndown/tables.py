@@ -70,6 +70,14 @@ def like_places(size):
     return tuple([tuple([1 if line == column else 0 for column in places]) for line in places])
 
 
+def growing_products(size, tables):
+    """The list of the products of the first of these tables of one size: of none, of one, up to all of them."""
+    products = [like_places(size)]
+    for table in tables:
+        products.append(multiplied(products[-1], table))
+    return products
+
+
 def columns_of(table):
     """The columns of the table, each a tuple, from the left."""
     return tuple([tuple([line[at] for line in table]) for at in range(len(table))])

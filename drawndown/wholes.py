@@ -1,6 +1,6 @@
 """Whole numbers and tuples of them: what lots and tables alike are built of."""
 
-from drawndown.errors import NoNumber
+from drawndown.errors import NoNumber, NoSize
 
 LEAST_SIZE = 2
 MOST_SIZE = 4
@@ -28,3 +28,17 @@ def want_number(thing, least, most):
     """Refuse what is no whole number from the least to the most one."""
     if not is_whole(thing) or not least <= thing <= most:
         raise NoNumber("a whole number within the bounds is wanted")
+
+
+def want_size(thing, most):
+    """Refuse what is no size up to the most one."""
+    if not is_whole(thing) or not LEAST_SIZE <= thing <= most:
+        raise NoSize("a size within the bounds is wanted")
+
+
+def tuples_between(size, least, most):
+    """The rising list of all tuples of so many whole numbers from the least to the most one."""
+    found = [()]
+    for place in range(size):
+        found = [ahead + (number,) for ahead in found for number in range(least, most + 1)]
+    return found

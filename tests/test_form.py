@@ -30,6 +30,12 @@ OUT = (
     ast.With, ast.Match, ast.Global, ast.Nonlocal, ast.Yield, ast.YieldFrom, ast.AsyncFor, ast.AsyncFunctionDef,
     ast.AsyncWith, ast.Await, ast.GeneratorExp, ast.NamedExpr, ast.Div, ast.Import, ast.TryStar,
 )
+# L25, without the later ones
+METHODS = set(
+    "append clear copy count endswith extend find get index insert isalnum isalpha isdigit islower isspace isupper "
+    "items join keys ljust lower lstrip partition pop remove replace reverse rfind rjust rpartition rsplit rstrip "
+    "setdefault split splitlines startswith strip update upper values zfill bit_length".split()
+)
 
 
 def text_of(path):
@@ -119,12 +125,48 @@ class Form(unittest.TestCase):
                     self.assertIsInstance(node.right, ast.Constant, path.name)
                     self.assertIn(node.right.value, range(65), path.name)
 
+    def test_is_stands_beside_none_true_and_false_alone(self):
+        for path, tree in PARSED:
+            for node in ast.walk(tree):
+                if isinstance(node, ast.Compare) and any(isinstance(sign, (ast.Is, ast.IsNot)) for sign in node.ops):
+                    self.assertIsInstance(node.comparators[-1], ast.Constant, path.name)
+                    self.assertIn(repr(node.comparators[-1].value), ("None", "True", "False"), path.name)
+
+    def test_methods_and_values(self):
+        methods, values = set(), set()
+        for path, tree in PARSED:
+            for node in ast.walk(tree):
+                if isinstance(node, ast.ClassDef):
+                    methods |= {each.name for each in node.body if isinstance(each, ast.FunctionDef)}
+                if isinstance(node, ast.Attribute) and isinstance(node.ctx, ast.Store):
+                    values.add(node.attr)
+        self.assertEqual(methods & values, set())
+        of_python = {name for kind in (str, int, list, dict, set, bytes, tuple) for name in dir(kind)}
+        self.assertEqual((methods | values) & of_python - {"__init__"}, set())
+        for path, tree in PARSED:
+            called = {node.func for node in ast.walk(tree) if isinstance(node, ast.Call)}
+            for node in ast.walk(tree):
+                if isinstance(node, ast.Attribute):
+                    self.assertIn(node.attr, METHODS | methods if node in called else values, path.name)
+
+    def test_errors_are_made_on_the_spot_and_taken_by_name(self):
+        for path, tree in PARSED:
+            for node in ast.walk(tree):
+                if isinstance(node, ast.Raise):
+                    self.assertIsInstance(node.exc, ast.Call, path.name)
+                    self.assertRegex(node.exc.func.id, r"\A(No|Not|Ended|Too)", path.name)
+                    for words in node.exc.args:
+                        self.assertIsInstance(words, ast.Constant, path.name)
+                if isinstance(node, ast.ExceptHandler):
+                    self.assertRegex(node.type.id, r"\A(No|Not|Ended|Too)", path.name)
+
     def test_what_is_walked_is_not_kept(self):
         kept = (ast.Assign, ast.Return, ast.Expr)
         for path, tree in PARSED:
             for node in ast.walk(tree):
-                if isinstance(node, kept) and isinstance(node.value, ast.Call) and isinstance(node.value.func, ast.Name):
-                    self.assertNotIn(node.value.func.id, ("range", "zip", "enumerate", "reversed"), path.name)
+                value = node.value if isinstance(node, kept) else None
+                if isinstance(value, ast.Call) and isinstance(value.func, ast.Name):
+                    self.assertNotIn(value.func.id, ("range", "zip", "enumerate", "reversed"), path.name)
 
     def test_no_two_files_draw_from_one_another(self):
         drawn = {}

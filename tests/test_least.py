@@ -20,7 +20,7 @@ def length_by_words(line):
 
 
 def solved(lot, line, most):
-    """The relations that begin with the line and whose last number is no greater than the most one, in whatever sign."""
+    """The relations that begin with the line and end with a number of either sign up to the most one."""
     rest = sum(one * other for one, other in zip(line, lot))
     if lot[-1] == 0:
         lasts = range(-most, most + 1) if rest == 0 else []
@@ -42,7 +42,8 @@ def lines_of_length(size, most):
     """All lines of so many numbers of a length up to the most one."""
     if size == 0:
         return [()]
-    return [(first,) + rest for first in range(-most, most + 1) for rest in lines_of_length(size - 1, most - abs(first))]
+    firsts = range(-most, most + 1)
+    return [(first,) + rest for first in firsts for rest in lines_of_length(size - 1, most - abs(first))]
 
 
 def by_length_by_words(lot):

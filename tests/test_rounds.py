@@ -32,7 +32,8 @@ ROUNDS = [
 ]
 
 ENDED = [
-    (ONE, NOTHING, NOTHING), (NOTHING, (-1, 1, 0), NOTHING), (NOTHING, NOTHING, (0, 0, 7)), ((5, -3, 2), NOTHING, NOTHING),
+    (ONE, NOTHING, NOTHING), (NOTHING, (-1, 1, 0), NOTHING), (NOTHING, NOTHING, (0, 0, 7)),
+    ((5, -3, 2), NOTHING, NOTHING),
 ]
 
 
@@ -346,7 +347,8 @@ class Refused(Case):
                 self.assert_refused(NoRoot, cubes_alike, root, PLAIN, lot)
                 for call in OF_ROUND:
                     self.assert_refused(NoRoot, call, root, lot, 0)
-        for lot in [None, (ONE, T), (NOTHING, NOTHING, NOTHING), (ONE, (-1, 0, 0), NOTHING), ((-1, 0, 0), NOTHING, NOTHING)]:
+        below = (-1, 0, 0)
+        for lot in [None, (ONE, T), (NOTHING, NOTHING, NOTHING), (ONE, below, NOTHING), (below, NOTHING, NOTHING)]:
             for call in OF_STEP:
                 self.assert_refused(NoCube, call, 2, lot)
             for call in OF_ROUND:

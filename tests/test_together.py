@@ -4,7 +4,12 @@ import functools
 import itertools
 import unittest
 
+from drawndown.backs import least_with, lots_to
+from drawndown.bench import Bench
+from drawndown.beside import by_steps, common_end, many_steps, most_steps
 from drawndown.cubes import cube_product, cube_sign, cube_sum, whole_part
+from drawndown.desk import Desk
+from drawndown.errors import TooMany
 from drawndown.least import by_length, by_weight, first_clash, has_none, is_clash, least_length, least_weight
 from drawndown.lots import common, has_ended, is_lot
 from drawndown.nearest import columns, errors, records, tops, worst
@@ -138,7 +143,8 @@ class Together(Case):
                 self.assertIsNone(cube_round(7, lots[0], 40))
 
     def test_a_round_is_made_of_its_steps(self):
-        for root, most in itertools.product((2, 3, 5, 7, 9, 10, 14, 26, 31, 43), (40,)):
+        for root in (2, 3, 5, 7, 9, 10, 14, 26, 31, 43):
+            most = 40
             lots = [((1, 0, 0), (0, 1, 0), (0, 0, 1))]
             ahead, steps = cube_round(root, lots[0], most)
             tables = []
@@ -158,6 +164,85 @@ class Together(Case):
             whole = whole_part(root, number)
             self.assertGreaterEqual(cube_sign(root, cube_sum(root, number, (-whole, 0, 0))), 0)
             self.assertEqual(cube_sign(root, cube_sum(root, number, (-whole - 1, 0, 0))), -1)
+
+    def test_the_lot_through_its_common_is_among_the_columns(self):
+        for rule, lot in self.each():
+            if lot[-1] != 0 and not has_ended(lot):
+                self.assertIn(tuple(number // common(lot) for number in lot), columns(rule, lot))
+
+    def test_the_rules_beside_one_another_have_their_runs(self):
+        for lot in LOTS:
+            steps = {rule: len(run(rule, lot)) - 1 for rule in RULES}
+            self.assertEqual(dict(by_steps(lot)), steps)
+            for one, other in itertools.product(RULES, repeat=2):
+                self.assertEqual(many_steps(one, lot), steps[one])
+                self.assertEqual(common_end(one, other, lot), common_end(other, one, lot))
+                self.assertIn(common_end(one, other, lot), range(1, min(steps[one], steps[other]) + 2))
+
+    def test_a_lot_comes_back_from_its_step(self):
+        refused = 0
+        for rule, lot in self.each():
+            if not has_ended(lot) and max(lot) <= 30:
+                for most in {max(lot), 20}:
+                    try:
+                        found = lots_to(rule, step(rule, lot), most)
+                    except TooMany:
+                        refused += 1
+                        continue
+                    self.assertIn(lot, found)
+                    for ahead in found:
+                        self.assertEqual(many_steps(rule, ahead), many_steps(rule, lot))
+                    if max(lot) > 1:
+                        self.assertNotIn(lot, lots_to(rule, step(rule, lot), max(lot) - 1))
+        self.assertGreater(refused, 0)
+
+    def test_a_lot_of_least_with_has_so_many_steps(self):
+        for rule, size, steps in itertools.product(RULES, (2, 3), range(13)):
+            lot = least_with(rule, size, steps)
+            if lot is not None:
+                self.assertEqual((len(lot), many_steps(rule, lot)), (size, steps))
+
+    def test_the_most_steps_are_those_of_the_lots(self):
+        for rule, size, number in itertools.product(RULES, (2, 3), range(1, 9)):
+            steps, lots = most_steps(rule, size, number)
+            self.assertEqual({many_steps(rule, lot) for lot in lots}, {steps})
+            first = least_with(rule, size, steps)
+            self.assertEqual(min(lots, key=lambda lot: (max(lot), lot)), first)
+
+    def test_a_bench_run_down_has_the_last_lot_and_the_product(self):
+        for rule, lot in self.each():
+            bench = Bench()
+            bench.lay(lot)
+            bench.run(rule)
+            self.assertEqual(bench.lot(), run(rule, lot)[-1])
+            self.assertEqual(bench.tables(), tables_of(rule, lot))
+            self.assertEqual(bench.product(), whole_table(rule, lot))
+            self.assertEqual(times(bench.product(), bench.lot()), lot)
+
+    def test_a_bench_goes_by_steps_as_by_a_run(self):
+        for rule, lot in self.each()[::3]:
+            bench = Bench()
+            bench.lay(lot)
+            for behind in run(rule, lot)[1:]:
+                bench.step(rule)
+                self.assertEqual(bench.lot(), behind)
+            self.assertEqual(bench.product(), whole_table(rule, lot))
+            for ahead in run(rule, lot)[-2::-1]:
+                bench.back()
+                self.assertEqual(bench.lot(), ahead)
+            self.assertEqual(bench.tables(), [])
+
+    def test_a_desk_tells_what_the_modules_tell(self):
+        for rule, lot in self.each():
+            if len(written(lot)) <= 296:
+                desk = Desk()
+                self.assertEqual(desk.say("lot " + written(lot)), "ok")
+                self.assertEqual(desk.say("show"), written(lot))
+                self.assertEqual(desk.say("common"), str(common(lot)))
+                self.assertEqual(desk.say("weights " + rule), ":".join(map(str, weights(rule, lot))))
+                self.assertEqual(desk.say("all " + rule), "ok")
+                self.assertEqual(read(desk.say("show")), run(rule, lot)[-1])
+                self.assertEqual(desk.say("steps"), str(many_steps(rule, lot)))
 
 
 if __name__ == "__main__":

@@ -246,9 +246,23 @@ def no_rules():
 
 def no_numbers(least, most):
     """Things of all kinds that are no whole numbers from the least to the most one."""
-    things = [least - 1, most + 1, -least, -most, 0, -1, GREAT, -GREAT, True, False, None, "1", "", 1.0, (1,), [1], {1: 1}]
-    things += anything((12, 5)) + OTHER_KINDS
+    things = [least - 1, most + 1, -least, -most, 0, -1, GREAT, -GREAT]
+    things += [True, False, None, "1", "", 1.0, (1,), [1], {1: 1}] + anything((12, 5)) + OTHER_KINDS
     return [thing for thing in things if not is_number_by_words(thing) or not least <= thing <= most]
+
+
+def no_sizes(most):
+    """Things of all kinds that are no sizes from 2 to the most one."""
+    return [2.0, "2", (2,), [2], {2: 2}] + no_numbers(2, most)
+
+
+def steps_by_words(rule, lot):
+    """How many steps the run has, counted as it goes."""
+    steps = 0
+    while not has_ended_by_words(lot):
+        lot = step_by_words(rule, lot)
+        steps += 1
+    return steps
 
 
 class Case(unittest.TestCase):
