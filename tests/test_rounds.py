@@ -296,14 +296,17 @@ class Refused(Case):
             for call in OF_ROUND:
                 self.assert_refused(NoRoot, call, thing, PLAIN, 3)
 
+    def assert_no_cube_lot(self, root, thing):
+        for call in OF_STEP:
+            self.assert_refused(NoCube, call, root, thing)
+        self.assert_refused(NoCube, cubes_alike, root, thing, PLAIN)
+        self.assert_refused(NoCube, cubes_alike, root, PLAIN, thing)
+        for call in OF_ROUND:
+            self.assert_refused(NoCube, call, root, thing, 3)
+
     def test_what_is_no_cube_lot(self):
         for thing in no_cube_lots(2):
-            for call in OF_STEP:
-                self.assert_refused(NoCube, call, 2, thing)
-            self.assert_refused(NoCube, cubes_alike, 2, thing, PLAIN)
-            self.assert_refused(NoCube, cubes_alike, 2, PLAIN, thing)
-            for call in OF_ROUND:
-                self.assert_refused(NoCube, call, 2, thing, 3)
+            self.assert_no_cube_lot(2, thing)
 
     def test_a_number_below_nought_and_noughts_alone(self):
         for lot in [
@@ -311,12 +314,7 @@ class Refused(Case):
             (ONE, T), (ONE, T, T_TWICE, ONE), [ONE, T, T_TWICE], (ONE, T, [0, 0, 1]), (ONE, T, (0, 0, True)),
             (ONE, T, (0, 1)), (1, 2, 3), whole_lot((1, 2)), (ONE, ONE, (0, 0, 0, 0)), None, "1",
         ]:
-            for call in OF_STEP:
-                self.assert_refused(NoCube, call, 2, lot)
-            self.assert_refused(NoCube, cubes_alike, 2, lot, PLAIN)
-            self.assert_refused(NoCube, cubes_alike, 2, PLAIN, lot)
-            for call in OF_ROUND:
-                self.assert_refused(NoCube, call, 2, lot, 3)
+            self.assert_no_cube_lot(2, lot)
 
     def test_what_is_below_nought_hangs_on_the_root(self):
         # Seven times t is less than 9 of the root 2, more of the root 3.
