@@ -93,7 +93,7 @@ class LotsTo(Case):
         self.assertEqual(len(lots_to("all", (0, 0, 0, 1), 10)), 999)
         for rule, lot, most in [
             ("turn", (1, 1, 1, 2), 21), ("all", (0, 0, 1, 2), 22), ("all", (0, 0, 0, 1), 11),
-            ("turn", (0, 0, 0, 1), 30), ("all", (1, 0, 0, 0), 30),
+            ("turn", (0, 0, 0, 1), 30), ("all", (1, 0, 0, 0), 30), ("all", (1, 2, 0, 0), 20), ("all", (0, 0, 1, 0), 10),
         ]:
             self.assert_refused(TooMany, lots_to, rule, lot, most)
 
